@@ -1,0 +1,1 @@
+"""Asking for the one that heads, by being sent on."""
