@@ -4,9 +4,23 @@ import inspect
 import itertools
 import unittest
 
+from sentnext import checker
+from sentnext.errors import NoLedger, NoRing, NotSure
+from sentnext.papers import ring
+from sentnext.stories import latest_story
+from sentnext.tighter import parted
 from tests.values import H, T, same
 
 STANDING = ((1, 0), 1, (0, 2, 0))
+G = (3, 3, 1)
+NAMED = (("named", 0, 0),)
+STORY = ((1, 1, 0, 0, 0), ((0, 1), (1, 0), (2, 0), (0, -1)))
+RING = ((1, 0, 1), ((0, 1), (1, 0), (0, 1)), 1)
+LEDGER = (
+    (((0,), 0, (0, 0, -1)), 1), (((0,), 0, (0, 0, 1)), 1), (((0,), 1, (0, 1, 0)), 2),
+    (((1,), 0, (0, 0, -1)), 3), (((1,), 0, (0, 1, 0)), 1),
+)
+WAY = ((0, (-1, 1)), (1, (2, -1)), (0, (-1, -1)))
 
 # For each file its functions: the arguments by their names, in order, and what is told.
 FUNCTIONS = {
@@ -28,7 +42,38 @@ FUNCTIONS = {
             (((1, 1), 0, (0, 1, 2)), ((1, 1), 0, (1, 0, 2))),
         ),
     },
+    "stories": {
+        "is_story": ({"house": G, "table": T, "value": STORY}, True),
+        "latest": ({"house": G, "table": T}, 4),
+        "latest_story": ({"house": G, "table": T}, latest_story(G, T)),
+        "most": ({"house": G, "table": T}, 4),
+    },
+    "papers": {
+        "ring": ({"house": H, "table": T}, ring(H, T)),
+        "ledger": ({"house": (2, 2, 0), "table": NAMED}, LEDGER),
+    },
+    "checker": {
+        "is_ring": ({"house": (2, 1, 0), "table": NAMED, "value": RING}, True),
+        "is_ledger": ({"house": (2, 2, 0), "table": NAMED, "value": LEDGER}, True),
+        "is_sure": ({"house": (2, 2, 0), "way": WAY, "moments": 3}, True),
+    },
+    "tighter": {
+        "least_rest": ({"house": H, "table": NAMED, "moments": 3}, 3),
+        "most_lag": ({"house": G, "table": NAMED, "moments": 3}, 1),
+        "stairs": ({"house": H, "table": NAMED}, ((2, 4), (3, 3))),
+        "parted": (
+            {"house": H, "table": T, "other": (("named", 0, 0),)},
+            parted(H, T, (("named", 0, 0),)),
+        ),
+        "best_table": ({"house": H}, NAMED),
+    },
 }
+# Calls that raise, and what the error tells.
+REFUSED = [
+    ("is_ring", {"house": (2, 1, 0), "table": NAMED, "value": RING[:2] + (0,)}, NoRing, {"word": "round"}),
+    ("is_ledger", {"house": (2, 2, 0), "table": NAMED, "value": LEDGER[:4]}, NoLedger, {"word": "open", "number": 3}),
+    ("is_sure", {"house": (2, 2, 0), "way": WAY, "moments": 2}, NotSure, {"course": (1, 0), "asks": ((0, 1), (1, 0))}),
+]
 CLASSES = {
     "errors": ["AskError", "NoRing", "NoLedger", "NotSure", "NoCourse", "NothingDone", "BadText"],
 }
@@ -82,6 +127,14 @@ class Interface(unittest.TestCase):
                 self.assertTrue(same(getattr(module, word)(**arguments), told), word)
                 for key in arguments:
                     self.assertTrue(same(arguments[key], before[key]), word)
+
+    def test_refused_by_name_in_any_order_and_asked_again(self):
+        for word, arguments, kind, told in REFUSED:
+            for order in itertools.permutations(arguments.items()):
+                with self.assertRaises(kind) as caught:
+                    getattr(checker, word)(**dict(order))
+                for key, worth in told.items():
+                    self.assertTrue(same(getattr(caught.exception, key), worth), (word, key))
 
 
 if __name__ == "__main__":

@@ -153,6 +153,23 @@ class Language(unittest.TestCase):
         for path, name in bound_names():
             self.assertNotIn(name, set(dir(builtins)), path)
 
+    def test_no_name_is_that_of_an_import_of_its_file(self):
+        imported = {(path, alias.name) for path, node in nodes(ast.ImportFrom) for alias in node.names}
+        for bound in bound_names():
+            self.assertNotIn(bound, imported)
+
+    def test_each_name_is_bound_once_at_module_level(self):
+        for path, text in texts():
+            names = []
+            for node in ast.parse(text).body:
+                if isinstance(node, (ast.FunctionDef, ast.ClassDef)):
+                    names.append(node.name)
+                elif isinstance(node, ast.ImportFrom):
+                    names += [alias.name for alias in node.names]
+                elif isinstance(node, ast.Assign):
+                    names += [target.id for target in node.targets]
+            self.assertEqual(len(names), len(set(names)), path)
+
     def test_methods_of_builtin_values(self):
         own = own_methods()
         for path, node in nodes(ast.Call):

@@ -2,35 +2,9 @@ import itertools
 import unittest
 
 from sentnext.standings import firsts, goes_to, may_name
-from tests.values import H, HOUSES, T, courses, same, told_names, told_standing
-
-NEW = (0, 0, -1)
-TABLES = [
-    T,
-    (("named", 0, 0),),
-    (("next", 0, 0),),
-    (("wait", 1, 0), ("named", 0, 2), ("next", 2, 0)),
-    (("next", 1, 2), ("wait", 2, 2), ("named", 1, 0)),
-]
-
-
-def told_asks(house, row, asker):
-    """The server that the deed of the row asks, or None."""
-    _, named, asked = asker
-    if row[0] == "next":
-        return asked + 1 if asked + 1 < house[0] else 0
-    return named if row[0] == "named" else None
-
-
-def told_behind(house, table, course, moment, asker):
-    """The askers behind the deed at a moment of a course, as the document says it."""
-    number, named, asked = asker
-    row = table[number]
-    server = told_asks(house, row, asker)
-    if server is None:
-        return [(row[1], named, asked)]
-    told = told_names(house, course, moment, server)
-    return [(row[2] if name == asked else row[1], name, server) for name in told]
+from tests.values import (
+    H, HOUSES, NEW, T, TABLES, courses, same, told_behind, told_names, told_standing, told_turns,
+)
 
 
 def told_ways(house, table, moments):
@@ -57,13 +31,6 @@ def shapes(house, table):
     askers = itertools.product(range(len(table)), range(servers), range(-1, servers))
     heads = itertools.product(range(servers), repeat=lag + 1)
     return itertools.product(heads, range(rest), askers)
-
-
-def told_turns(house, heads, hold):
-    """The pairs of heads and hold at the next moment."""
-    if hold > 0:
-        return [((heads[0],) + heads[:-1], hold - 1)]
-    return [((head,) + heads[:-1], house[1] - 1 if head != heads[0] else 0) for head in range(house[0])]
 
 
 class Firsts(unittest.TestCase):
