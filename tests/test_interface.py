@@ -4,15 +4,17 @@ import inspect
 import itertools
 import unittest
 
-from sentnext import checker
-from sentnext.errors import NoLedger, NoRing, NotSure
+from sentnext.asker import Asker
+from sentnext.errors import BadText, NoCourse, NoLedger, NoRing, NothingDone, NotSure
 from sentnext.papers import ring
 from sentnext.stories import latest_story
 from sentnext.tighter import parted
+from sentnext.ways import way
 from tests.values import H, T, same
 
 STANDING = ((1, 0), 1, (0, 2, 0))
 G = (3, 3, 1)
+CALM = (3, 4, 1)
 NAMED = (("named", 0, 0),)
 STORY = ((1, 1, 0, 0, 0), ((0, 1), (1, 0), (2, 0), (0, -1)))
 RING = ((1, 0, 1), ((0, 1), (1, 0), (0, 1)), 1)
@@ -21,6 +23,8 @@ LEDGER = (
     (((1,), 0, (0, 0, -1)), 3), (((1,), 0, (0, 1, 0)), 1),
 )
 WAY = ((0, (-1, 1)), (1, (2, -1)), (0, (-1, -1)))
+LOG = ((0, 1), (-1, -1), (1, 2))
+TEXT = "house 3 2 1\nnamed 0 1\nnext 0 0\n"
 
 # For each file its functions: the arguments by their names, in order, and what is told.
 FUNCTIONS = {
@@ -67,15 +71,39 @@ FUNCTIONS = {
         ),
         "best_table": ({"house": H}, NAMED),
     },
+    "ways": {
+        "is_way": ({"house": (2, 2, 0), "value": WAY}, True),
+        "soonest": ({"house": H}, 4),
+        "way": ({"house": H}, way(H)),
+    },
+    "logs": {
+        "is_log": ({"house": H, "value": LOG}, True),
+        "may_head": ({"house": CALM, "log": LOG}, (2,)),
+        "last_change": ({"house": CALM, "log": LOG}, (1, 3)),
+    },
+    "texts": {
+        "table_text": ({"house": H, "table": T}, TEXT),
+        "read_table": ({"text": TEXT}, (H, T)),
+    },
 }
 # Calls that raise, and what the error tells.
 REFUSED = [
-    ("is_ring", {"house": (2, 1, 0), "table": NAMED, "value": RING[:2] + (0,)}, NoRing, {"word": "round"}),
-    ("is_ledger", {"house": (2, 2, 0), "table": NAMED, "value": LEDGER[:4]}, NoLedger, {"word": "open", "number": 3}),
-    ("is_sure", {"house": (2, 2, 0), "way": WAY, "moments": 2}, NotSure, {"course": (1, 0), "asks": ((0, 1), (1, 0))}),
+    ("checker", "is_ring", {"house": (2, 1, 0), "table": NAMED, "value": RING[:2] + (0,)}, NoRing, {"word": "round"}),
+    (
+        "checker", "is_ledger", {"house": (2, 2, 0), "table": NAMED, "value": LEDGER[:4]},
+        NoLedger, {"word": "open", "number": 3},
+    ),
+    (
+        "checker", "is_sure", {"house": (2, 2, 0), "way": WAY, "moments": 2},
+        NotSure, {"course": (1, 0), "asks": ((0, 1), (1, 0))},
+    ),
+    ("logs", "may_head", {"house": (3, 6, 0), "log": ((0, 1), (1, 2), (2, 0))}, NoCourse, {"number": 2}),
+    ("logs", "last_change", {"house": (3, 6, 0), "log": ((0, 1), (1, 2), (2, 0))}, NoCourse, {"number": 2}),
+    ("texts", "read_table", {"text": TEXT + "next 0"}, BadText, {"line": 3, "word": 2}),
 ]
 CLASSES = {
     "errors": ["AskError", "NoRing", "NoLedger", "NotSure", "NoCourse", "NothingDone", "BadText"],
+    "asker": ["Asker"],
 }
 
 
@@ -129,12 +157,30 @@ class Interface(unittest.TestCase):
                     self.assertTrue(same(arguments[key], before[key]), word)
 
     def test_refused_by_name_in_any_order_and_asked_again(self):
-        for word, arguments, kind, told in REFUSED:
+        for file, word, arguments, kind, told in REFUSED:
+            module = importlib.import_module("sentnext." + file)
             for order in itertools.permutations(arguments.items()):
                 with self.assertRaises(kind) as caught:
-                    getattr(checker, word)(**dict(order))
+                    getattr(module, word)(**dict(order))
                 for key, worth in told.items():
                     self.assertTrue(same(getattr(caught.exception, key), worth), (word, key))
+
+    def test_askers_by_position_and_by_name(self):
+        for asker in (Asker(CALM), Asker(house=CALM)):
+            deeds = [asker.ask(0, 1), asker.wait(), asker.ask(name=2, server=1), asker.undo()]
+            self.assertTrue(same(deeds, [1, 2, 3, 2]))
+            self.assertTrue(same(asker.ask(1, name=2), 3))
+            self.assertTrue(same((asker.house, asker.log, len(asker)), (CALM, LOG, 3)))
+            self.assertTrue(same((asker.may(), asker.sure()), ((2,), 2)))
+            self.assertIs(asker.twin() == asker, True)
+            self.assertRaises(NothingDone, Asker(CALM).undo)
+
+    def test_the_arguments_of_askers_have_the_names_of_the_interface(self):
+        listed = {
+            "__init__": ["house"], "ask": ["server", "name"], "wait": [], "undo": [], "may": [], "sure": [], "twin": [],
+        }
+        for word, names in listed.items():
+            self.assertEqual(list(inspect.signature(getattr(Asker, word)).parameters)[1:], names, word)
 
 
 if __name__ == "__main__":

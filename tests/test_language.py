@@ -31,8 +31,10 @@ METHODS = set(
     " rjust rpartition rsplit rstrip setdefault split splitlines startswith strip update upper"
     " values zfill bit_length title capitalize swapcase casefold center expandtabs removeprefix"
     " removesuffix rindex isascii isdecimal isnumeric istitle isidentifier isprintable"
-    " add discard sort __init__".split()
+    " add discard __init__".split()
 )
+CLASS_METHODS = set("__init__ __eq__ __ne__ __len__ __repr__ __str__ __enter__ __exit__ __call__ __iter__".split())
+LIST_TAKERS = ("any", "all", "min", "max", "sum", "sorted")
 BARRED_NODES = (
     ast.Global, ast.AsyncFunctionDef, ast.AsyncFor, ast.AsyncWith, ast.Await, ast.Div, ast.MatMult,
 )
@@ -175,6 +177,40 @@ class Language(unittest.TestCase):
         for path, node in nodes(ast.Call):
             if isinstance(node.func, ast.Attribute):
                 self.assertIn(node.func.attr, METHODS | own, path)
+
+    def test_methods_with_two_underscores(self):
+        for path, node in nodes(ast.FunctionDef):
+            if node.name.startswith("__"):
+                self.assertIn(node.name, CLASS_METHODS, path)
+        for path, name in bound_names():
+            self.assertTrue(name in CLASS_METHODS or not name.startswith("__"), (path, name))
+
+    def test_lists_where_a_class_compares(self):
+        # A class has __eq__, so these take no generator expression.
+        for path, node in nodes(ast.Call):
+            if isinstance(node.func, ast.Name) and node.func.id in LIST_TAKERS:
+                for part in node.args:
+                    self.assertNotIsInstance(part, ast.GeneratorExp, (path, node.lineno))
+
+    def test_attributes_are_assigned_through_a_local_name(self):
+        for path, node in nodes(ast.Attribute):
+            if not isinstance(node.ctx, ast.Load):
+                self.assertIsInstance(node.value, ast.Name, path)
+
+    def test_no_name_is_a_method_and_an_attribute(self):
+        attributes = {node.attr for _, node in nodes(ast.Attribute) if not isinstance(node.ctx, ast.Load)}
+        methods = {part.name for _, node in nodes(ast.ClassDef) for part in node.body if isinstance(part, ast.FunctionDef)}
+        self.assertFalse(attributes & methods)
+
+    def test_files_import_in_one_direction(self):
+        ahead = {}
+        for path, node in nodes(ast.ImportFrom):
+            ahead.setdefault(path.stem, set()).add(node.module.split(".")[-1])
+        while ahead:
+            free = [file for file, needed in ahead.items() if not needed & set(ahead)]
+            self.assertTrue(free, ahead)
+            for file in free:
+                del ahead[file]
 
     def test_is_stands_beside_none_true_and_false(self):
         for path, node in nodes(ast.Compare):

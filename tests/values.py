@@ -251,3 +251,37 @@ def fitting(houses, tables):
     for house, table in itertools.product(houses, tables):
         if house[0] ** (house[2] + 1) * len(table) <= 200:
             yield house, table
+
+
+def way_answers(house, course, moment, row):
+    """Each pair that a row of a way may bring forth, with the row behind it; nothing if it is served."""
+    deed, nexts = row
+    if deed == -1:
+        return [((-1, -1), nexts[0])]
+    return [((deed, name), nexts[name]) for name in told_names(house, course, moment, deed)]
+
+
+def unserved(house, way, moments):
+    """Every course and pairs of so many moments, or up to where the way ends, that are never served."""
+    lag = house[2]
+    for course in courses(house, lag + moments):
+        plays = [((), 0)]
+        for moment in range(lag, lag + moments):
+            plays = [(pairs + (pair,), later) for pairs, row in plays
+                     for pair, later in way_answers(house, course, moment, way[row])]
+            for pairs, _ in [play for play in plays if play[1] == -1 or moment == lag + moments - 1]:
+                yield (course[:moment + 1], pairs)
+            plays = [play for play in plays if play[1] != -1]
+
+
+def small_ways(house, rows):
+    """Every way of so many rows."""
+    places = []
+    for row in range(rows):
+        later = [-1] + list(range(row + 1, rows))
+        fitted = [(-1, (number,)) for number in later]
+        for server in range(house[0]):
+            numbers = [[-1] if named == server else later for named in range(house[0])]
+            fitted += [(server, nexts) for nexts in itertools.product(*numbers)]
+        places.append(fitted)
+    return itertools.product(*places)
